@@ -10,7 +10,7 @@ import (
 	"glean/kv"
 )
 
-// P20.1 to P20.6: whatever blocks there are, the reports and what lies there are what the chapters say, each state is sound, no coin is made or lost.
+// P20.1 to P20.6, P30.1: whatever blocks there are, the reports and what lies there are what the chapters say, each state is sound, no coin is made or lost.
 func TestWhateverIsDone(t *testing.T) {
 	r := rand.New(rand.NewSource(301))
 	done, refused := map[byte]int{}, map[api.Errno]int{}

@@ -1,4 +1,5 @@
-// Package whole_test asks what DOC.md promises of the whole, P30.1 to P30.15: of runs, each a beginning as raw bytes and blocks of raw items.
+// What DOC.md promises of the whole, P30.1 to P30.15, is asked of runs here: each a beginning as raw bytes, and blocks of raw items.
+
 package whole_test
 
 import (
